@@ -1,0 +1,1 @@
+"""Hueshade: coloured lamps, posts and panes on a floor, and what is seen of them."""
