@@ -6,7 +6,7 @@ FAR = 1000000
 
 
 def common_part(one, other):
-    """The greatest number that both are whole times of; not both may be 0."""
+    """The greatest number that both are whole times of, 0 where both are 0."""
     one = abs(one)
     other = abs(other)
     while other != 0:

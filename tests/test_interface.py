@@ -19,6 +19,24 @@ SIGNATURES = {
         "summed": "(lights)",
         "both_sifts": "(one, other)",
     },
+    "hueshade.figures": {
+        "side": "(one, other, place)",
+        "on_piece": "(place, piece)",
+        "pieces_meet": "(one, other)",
+        "block_meets": "(block, piece)",
+        "piece_shares": "(other, piece)",
+        "block_shares": "(block, piece)",
+    },
+    "hueshade.edges": {
+        "block_shade": "(place, block, line)",
+        "piece_shade": "(place, piece, line)",
+    },
+    "hueshade.menus": {
+        "how_many": "(counts)",
+        "all_rows": "(counts, *, most=200)",
+        "row_number": "(counts, row)",
+        "row_at": "(counts, number)",
+    },
 }
 
 CLASSES = {
