@@ -57,6 +57,13 @@ def order(one, other):
     return 0
 
 
+def whole_marks(told):
+    """For each fraction of a list a whole number; these stand to one another as the fractions do."""
+    # Unlike fractions are apart by one over both bottoms or more: so many times that is one or more.
+    square = max([bottom for top, bottom in told], default=1) ** 2
+    return [top * square // bottom for top, bottom in told]
+
+
 def fraction_text(one):
     """The top, and a stroke and the bottom where that isn't 1."""
     top, bottom = one

@@ -37,6 +37,64 @@ SIGNATURES = {
         "row_number": "(counts, row)",
         "row_at": "(counts, number)",
     },
+    "hueshade.plans": {
+        "seen": "(house, view, setting)",
+        "plan": "(house, views)",
+        "plan_paper": "(house, views, *, looks=0)",
+        "depth": "(told)",
+    },
+    "hueshade.texts": {
+        "deed_text": "(deed)",
+        "read_deed": "(text)",
+    },
+}
+
+METHODS = {
+    ("hueshade.house", "House"): {
+        "do": "(self, deed)",
+        "lamp": "(self, across, up, *, light=(9, 9, 9))",
+        "unsure": "(self, choices)",
+        "post": "(self, left, low, right=None, high=None)",
+        "pane": "(self, one, other, *, sift='')",
+        "move": "(self, sort, number, *, right=0, up=0)",
+        "switch": "(self, number)",
+        "drop": "(self, sort, number)",
+        "look": "(self, across, up, light)",
+        "strike": "(self, number)",
+        "settle": "(self, number, at=0)",
+        "many": "(self, deeds)",
+        "trial": "(self, deeds)",
+        "undo": "(self)",
+        "redo": "(self)",
+        "deeds": "(self)",
+        "busy": "(self)",
+        "lamps": "(self)",
+        "posts": "(self)",
+        "panes": "(self)",
+        "looks": "(self)",
+        "floor_of": "(self, number)",
+        "coming": "(self, sort)",
+        "settings": "(self)",
+        "fits": "(self)",
+        "clash": "(self)",
+        "left": "(self, number)",
+        "light": "(self, across, up, *, setting=None)",
+        "reasons": "(self, across, up, *, setting=None)",
+        "lights": "(self, across, up)",
+        "along": "(self, one, other, *, setting=None)",
+        "share_light": "(self, one, other, share, *, setting=None)",
+        "twin": "(self)",
+        "__init__": "(self)",
+        "__eq__": "(self, other)",
+        "__len__": "(self)",
+        "__repr__": "(self)",
+        "__str__": "(self)",
+    },
+}
+
+VALUES = {
+    "hueshade.house": {"WHITE": (9, 9, 9)},
+    "hueshade.plans": {"MOST_VIEWS": 8, "MOST_FITS": 24},
 }
 
 CLASSES = {
@@ -45,6 +103,7 @@ CLASSES = {
         "BadSort", "BadDeed", "BadView", "BadWish", "BadText", "Nought", "Unknown", "Missing", "NoThing", "NoLook",
         "NothingLeft", "Crowded", "Full", "Looked", "TooMany",
     ),
+    "hueshade.house": ("House",),
 }
 
 MAKERS = {
@@ -71,6 +130,20 @@ class TestInterface(unittest.TestCase):
                 self.assertTrue(inspect.isclass(told), name)
                 self.assertEqual(told.__module__, module, name)
                 self.assertEqual(told.__name__, name)
+
+    def test_methods_stand_in_their_class_itself(self):
+        for (module, name), rows in METHODS.items():
+            told = getattr(importlib.import_module(module), name)
+            for method, signature in rows.items():
+                self.assertIn(method, vars(told), name)
+                self.assertTrue(inspect.isfunction(vars(told)[method]), method)
+                self.assertEqual(str(inspect.signature(vars(told)[method])), signature, method)
+
+    def test_values(self):
+        for module, rows in VALUES.items():
+            for name, worth in rows.items():
+                told = getattr(importlib.import_module(module), name)
+                self.assertEqual((told, type(told)), (worth, type(worth)), name)
 
     def test_errors_with_fields(self):
         for name, signature in MAKERS.items():

@@ -5,7 +5,7 @@ from fractions import Fraction
 from math import gcd
 
 from hueshade.errors import Nought, ShadeError
-from hueshade.numbers import FAR, fraction, fraction_text, less, middle, order, plus, times
+from hueshade.numbers import FAR, fraction, fraction_text, less, middle, order, plus, times, whole_marks
 
 LONG = 999999999999999999999999999999
 OTHER_LONG = 123456789012345678901234567890
@@ -172,6 +172,28 @@ class TestAskedAgain(unittest.TestCase):
     def test_the_same_is_told(self):
         for ask in (plus, less, times, middle, order):
             self.assertEqual(ask((5, 6), (-7, 4)), ask((5, 6), (-7, 4)))
+
+
+class TestWholeMarks(unittest.TestCase):
+    def test_they_stand_as_the_fractions_do(self):
+        marks = whole_marks(list(SOME))
+        for one, one_mark in zip(SOME, marks):
+            self.assertIs(type(one_mark), int)
+            for other, other_mark in zip(SOME, marks):
+                worth, other_worth = Fraction(*one), Fraction(*other)
+                self.assertEqual(one_mark < other_mark, worth < other_worth, (one, other))
+                self.assertEqual(one_mark == other_mark, worth == other_worth, (one, other))
+
+    def test_fractions_that_are_hardly_unlike(self):
+        near = [(LONG - 1, LONG), (LONG - 2, LONG - 1), (LONG - 3, LONG - 2)]
+        marks = whole_marks(near)
+        self.assertEqual(sorted(marks, reverse=True), marks)
+        self.assertEqual(len(set(marks)), 3)
+
+    def test_of_none_and_of_like_ones(self):
+        self.assertEqual(whole_marks([]), [])
+        one, other = whole_marks([(1, 3), (1, 3)])
+        self.assertEqual(one, other)
 
 
 if __name__ == "__main__":

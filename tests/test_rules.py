@@ -26,6 +26,14 @@ BARRED_NAMES = set(
     "copyright credits delattr dir eval exec exit gc getattr globals hasattr help id importlib license locals "
     "methodcaller os quit setattr type vars sys chr format format_map".split()
 )
+METHODS_OF_BUILTINS = set(
+    "append clear copy count endswith extend find get index insert isalnum isalpha isdigit islower isspace isupper items "
+    "join keys ljust lower lstrip partition pop remove replace reverse rfind rjust rpartition rsplit rstrip setdefault "
+    "split splitlines startswith strip update upper values zfill bit_length title capitalize swapcase casefold center "
+    "expandtabs removeprefix removesuffix rindex isascii isdecimal isnumeric istitle isidentifier isprintable "
+    "translate add discard".split()
+)
+DOUBLE_UNDERSCORES = {"__init__", "__eq__", "__repr__", "__str__", "__len__"}
 BARRED_NODES = (
     ast.Global, ast.AsyncFunctionDef, ast.AsyncFor, ast.AsyncWith, ast.Await, ast.Import, ast.Div, ast.MatMult,
     ast.TryStar, ast.MatchClass, ast.MatchMapping,
@@ -47,6 +55,23 @@ def bound_names(node):
     if isinstance(node, ast.ExceptHandler) and node.name:
         return [node.name]
     return []
+
+
+def trees():
+    return [(path, ast.parse(path.read_text(encoding="utf-8"))) for path in FILES]
+
+
+def all_nodes(kind):
+    """All nodes of a kind in all files, with their files."""
+    return [(path, node) for path, tree in trees() for node in ast.walk(tree) if isinstance(node, kind)]
+
+
+def methods():
+    return [(path, row) for path, node in all_nodes(ast.ClassDef) for row in node.body if isinstance(row, ast.FunctionDef)]
+
+
+def calls_of(node, name):
+    return isinstance(node, ast.Call) and isinstance(node.func, ast.Name) and node.func.id == name
 
 
 def own_names(path):
@@ -100,6 +125,24 @@ class TestImports(unittest.TestCase):
             self.assertEqual(tree.body[first:first + len(imports)], imports, path)
             for node in imports:
                 self.check_import(path, node)
+
+    def test_no_two_files_import_from_each_other(self):
+        ahead = {}
+        for path, node in all_nodes(ast.ImportFrom):
+            ahead.setdefault(path.stem, set()).add(node.module.split(".")[1])
+        done = set()
+        while len(done) < len(FILES):
+            free = [path.stem for path in FILES if path.stem not in done and ahead.get(path.stem, set()) <= done]
+            self.assertTrue(free, [path.stem for path in FILES if path.stem not in done])
+            done.update(free)
+
+    def test_imports_are_used(self):
+        for path, tree in trees():
+            read = {node.id for node in ast.walk(tree) if isinstance(node, ast.Name)}
+            for node in ast.walk(tree):
+                if isinstance(node, ast.ImportFrom):
+                    for name in node.names:
+                        self.assertIn(name.name, read, path)
 
     def check_import(self, path, node):
         self.assertEqual(node.level, 0, path)
@@ -159,6 +202,95 @@ class TestCode(unittest.TestCase):
             if isinstance(node, ast.ClassDef):
                 for row in node.body:
                     self.assertNotIsInstance(row, (ast.Assign, ast.AnnAssign), node.name)
+
+    def test_no_name_is_a_method_and_an_attribute(self):
+        assigned = {node.attr for path, node in all_nodes(ast.Attribute) if isinstance(node.ctx, ast.Store)}
+        for path, method in methods():
+            self.assertNotIn(method.name, assigned, path)
+        read = {node.attr for path, node in all_nodes(ast.Attribute) if isinstance(node.ctx, ast.Load)}
+        known = assigned | {method.name for path, method in methods()} | METHODS_OF_BUILTINS
+        self.assertLessEqual(read, known)
+
+    def test_double_underscore_methods(self):
+        for path, method in methods():
+            if method.name.startswith("__"):
+                self.assertIn(method.name, DOUBLE_UNDERSCORES, path)
+        for path, method in methods():
+            if method.name in ("__eq__", "__repr__", "__str__", "__len__"):
+                for node in ast.walk(method):
+                    self.assertNotIsInstance(node, (ast.Assign, ast.AugAssign, ast.Delete), (path, method.name))
+                self.assertIsInstance(method.body[-1], ast.Return, (path, method.name))
+            for node in ast.walk(method):
+                if method.name == "__len__" and isinstance(node, ast.Return):
+                    self.assertTrue(calls_of(node.value, "len"), path)
+                if method.name in ("__repr__", "__str__") and isinstance(node, ast.Return):
+                    told = node.value
+                    self.assertTrue(isinstance(told, ast.JoinedStr) or calls_of(told, "str") or calls_of(told, "repr"), path)
+
+    def test_no_generators(self):
+        # A class has == and len, so that any, all, sum and the like take lists.
+        self.assertEqual(all_nodes((ast.GeneratorExp, ast.Yield, ast.YieldFrom)), [])
+
+    def test_sets_stand_in_sorted_and_len_or_behind_in(self):
+        let = set()
+        for path, node in all_nodes((ast.Call, ast.Compare)):
+            if calls_of(node, "sorted") or calls_of(node, "len"):
+                let.update(map(ast.dump, node.args))
+            if isinstance(node, ast.Compare):
+                let.update(map(ast.dump, node.comparators))
+        for path, node in all_nodes((ast.Call, ast.Set, ast.SetComp)):
+            if not isinstance(node, ast.Call) or calls_of(node, "set"):
+                self.assertIn(ast.dump(node), let, (path, node.lineno))
+
+    def test_no_sort_in_place(self):
+        for path, node in all_nodes(ast.Attribute):
+            self.assertNotIn(node.attr, ("sort", "format", "args"), (path, node.lineno))
+
+    def test_powers_have_a_literal_exponent(self):
+        for path, node in all_nodes(ast.BinOp):
+            if isinstance(node.op, ast.Pow):
+                self.assertIsInstance(node.right, ast.Constant, (path, node.lineno))
+
+    def test_raise_makes_its_error_on_the_spot(self):
+        classes = {node.name for path, node in all_nodes(ast.ClassDef)}
+        for path, node in all_nodes(ast.Raise):
+            self.assertTrue(isinstance(node.exc, ast.Call) and node.exc.func.id in classes, (path, node.lineno))
+
+    def test_handlers_name_own_errors(self):
+        own = {node.name for path, node in all_nodes(ast.ClassDef)}
+        for path, node in all_nodes(ast.ExceptHandler):
+            named = node.type.elts if isinstance(node.type, ast.Tuple) else [node.type]
+            for name in named:
+                self.assertIn(name.id, own, (path, node.lineno))
+
+    def test_no_local_name_is_an_import_a_class_or_a_builtin(self):
+        for path, tree in trees():
+            taken = {name.name for node in tree.body if isinstance(node, ast.ImportFrom) for name in node.names}
+            taken |= {node.name for node in tree.body if isinstance(node, ast.ClassDef)}
+            for top in tree.body:
+                if not isinstance(top, (ast.FunctionDef, ast.ClassDef)):
+                    continue
+                for node in ast.walk(top):
+                    if isinstance(node, ast.ClassDef) or (isinstance(top, ast.ClassDef) and isinstance(node, ast.FunctionDef)):
+                        continue
+                    for name in bound_names(node):
+                        self.assertNotIn(name, taken, path)
+                        self.assertFalse(hasattr(builtins, name), (path, name))
+
+    def test_module_level_lists_and_dicts_hold_none(self):
+        for path, tree in trees():
+            for node in tree.body:
+                if isinstance(node, ast.Assign):
+                    within = [other for other in ast.walk(node.value) if other is not node.value]
+                    self.assertFalse(any(isinstance(other, (ast.List, ast.Dict)) for other in within), (path, node.lineno))
+
+    def test_comprehensions_name_what_no_one_further_out_names(self):
+        for path, node in all_nodes((ast.ListComp, ast.SetComp, ast.DictComp)):
+            mine = {name for row in node.generators for target in ast.walk(row.target) for name in bound_names(target)}
+            for other in ast.walk(node):
+                if other is not node and isinstance(other, (ast.ListComp, ast.SetComp, ast.DictComp, ast.Lambda)):
+                    for within in ast.walk(other):
+                        self.assertFalse(mine & set(bound_names(within)), (path, node.lineno))
 
     def test_escapes_in_strings(self):
         for path in FILES:
