@@ -3,6 +3,7 @@
 import unittest
 
 import plainhouse
+from making import house_of
 
 from hueshade import errors
 from hueshade.house import House
@@ -11,13 +12,6 @@ from hueshade.numbers import FAR
 
 FIELDS = ("kind", "number", "row")
 HUGE = 10 ** 29
-
-
-def house_of(*deeds):
-    house = House()
-    for deed in deeds:
-        house.do(deed)
-    return house
 
 
 def outcome(doing, *things):

@@ -3,19 +3,11 @@
 import unittest
 
 import plainhouse
+from making import TWO, house_of
 
 from hueshade.errors import BadPlace
 from hueshade.house import House
 from hueshade.texts import deed_text
-
-TWO = ((0, 0, 1, 0, 0), (9, 0, 0, 1, 0))
-
-
-def house_of(*deeds):
-    house = House()
-    for deed in deeds:
-        house.do(deed)
-    return house
 
 
 class TestEqual(unittest.TestCase):

@@ -43,9 +43,20 @@ SIGNATURES = {
         "plan_paper": "(house, views, *, looks=0)",
         "depth": "(told)",
     },
+    "hueshade.parting": {
+        "parting": "(one, other, things, places)",
+    },
+    "hueshade.wishes": {
+        "wish": "(house, menu, wants, *, most=8)",
+        "wish_paper": "(house, menu, wants, *, most=0)",
+    },
     "hueshade.texts": {
         "deed_text": "(deed)",
         "read_deed": "(text)",
+    },
+    "hueshade.pages": {
+        "page": "(house)",
+        "read_page": "(text)",
     },
 }
 
@@ -90,11 +101,25 @@ METHODS = {
         "__repr__": "(self)",
         "__str__": "(self)",
     },
+    ("hueshade.desk", "Desk"): {
+        "__init__": "(self, house=None)",
+        "house": "(self)",
+        "say": "(self, line)",
+        "__len__": "(self)",
+    },
 }
 
 VALUES = {
+    "hueshade.numbers": {"FAR": 1000000},
+    "hueshade.lights": {
+        "BRIGHT": 1000000, "SIFTS": ("", "r", "g", "b", "rg", "rb", "gb", "rgb"), "DARK": (0, 0, 0),
+    },
+    "hueshade.menus": {"MOST_SETTINGS": 200},
+    "hueshade.stands": {"MOST_THINGS": 12, "MOST_LOOKS": 24, "SORTS": ("lamp", "post", "pane")},
     "hueshade.house": {"WHITE": (9, 9, 9)},
     "hueshade.plans": {"MOST_VIEWS": 8, "MOST_FITS": 24},
+    "hueshade.parting": {"MOST_MOVES": 200},
+    "hueshade.wishes": {"MOST_WISH": 8},
 }
 
 CLASSES = {
@@ -104,6 +129,7 @@ CLASSES = {
         "NothingLeft", "Crowded", "Full", "Looked", "TooMany",
     ),
     "hueshade.house": ("House",),
+    "hueshade.desk": ("Desk",),
 }
 
 MAKERS = {

@@ -5,17 +5,11 @@ from fractions import Fraction
 
 import plainhouse
 import plainly
+from making import house_of
 
 from hueshade.errors import BadPiece, BadPlace, BadSetting, Unknown
 from hueshade.house import WHITE, House
 from hueshade.numbers import FAR
-
-
-def house_of(*deeds):
-    house = House()
-    for deed in deeds:
-        house.do(deed)
-    return house
 
 
 def small_houses(seeds, **sizes):

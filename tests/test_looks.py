@@ -4,20 +4,11 @@ import itertools
 import unittest
 
 import plainhouse
+from making import THREE, TWO, house_of
 
 from hueshade.errors import BadPlace, NoLook, NoThing
 from hueshade.house import House
 from hueshade.numbers import FAR
-
-TWO = ((0, 0, 1, 0, 0), (9, 0, 0, 1, 0))
-THREE = ((0, 0, 10, 0, 0), (9, 0, 0, 10, 0), (4, 4, 0, 0, 10))
-
-
-def house_of(*deeds):
-    house = House()
-    for deed in deeds:
-        house.do(deed)
-    return house
 
 
 def looked_houses(seeds, true_share=0.8):

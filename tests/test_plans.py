@@ -4,21 +4,12 @@ import copy
 import unittest
 
 import plainhouse
+from making import THREE, TWO, house_of
 
 from hueshade.errors import BadPlace, BadSetting, BadSort, BadView, NoThing, TooMany, Unknown
 from hueshade.house import House
 from hueshade.numbers import FAR
 from hueshade.plans import MOST_FITS, MOST_VIEWS, depth, plan, plan_paper, seen
-
-TWO = ((0, 0, 1, 0, 0), (9, 0, 0, 1, 0))
-THREE = ((0, 0, 10, 0, 0), (9, 0, 0, 10, 0), (4, 4, 0, 0, 10))
-
-
-def house_of(*deeds):
-    house = House()
-    for deed in deeds:
-        house.do(deed)
-    return house
 
 
 def plain_seen(plain, view, setting):
