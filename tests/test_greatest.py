@@ -157,6 +157,28 @@ class TestGreatestPlans(PlanTest):
             self.check_paper(plan_paper(house, views, looks=looks), house.fits(), rows, looks)
         self.assertIsNone(plan_paper(house, views, looks=8))
 
+    def check_way_down(self, paper, settings, rows, chance):
+        """Follows a paper down by views that chance tells, and tells how many looks it speaks of."""
+        looks = 0
+        while paper[0] == "each":
+            self.assertEqual((len(paper), type(paper[1]), len(paper[1])), (2, list, len(rows)))
+            at = chance.randrange(len(rows))
+            light, paper = paper[1][at]
+            settings = [setting for setting in settings if rows[at][setting] == light]
+            looks += 1
+        self.check_paper(paper, settings, rows, 0)
+        return looks
+
+    def test_the_longest_papers(self):
+        # They have two million ends: some of these are looked at.
+        house, views = self.deep_house()
+        rows = self.rows_of(house, views)
+        chance = plainhouse.seeded(17)
+        for looks in (4, 5, 6, 7):
+            paper = plan_paper(house, views, looks=looks)
+            for turn in range(300):
+                self.assertEqual(self.check_way_down(paper, house.fits(), rows, chance), looks)
+
 
 if __name__ == "__main__":
     unittest.main()

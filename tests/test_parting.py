@@ -103,6 +103,18 @@ class TestParting(unittest.TestCase):
         )
         self.assertIsNone(parting(one, other, things[:1], [(9, 0)]))
 
+    def test_one_later_thing_goes_ahead_of_two_earlier_ones(self):
+        walls = (("post", 2, -5, 2, 5), ("post", 3, -5, 3, 5))
+        one = house_of(("lamp", 0, 0, 1, 1, 1), *walls)
+        other = house_of(("lamp", 0, 0, 1, 1, 2), *walls)
+        lamp, first, second = ("lamp", 1, ((5, 0),)), ("post", 1, ((0, 20),)), ("post", 2, ((0, 20),))
+        # As a row of numbers (0, 1, 1) comes ahead of (1, 0, 0), but it moves more things.
+        for things in ([lamp, first, second], [first, lamp, second], [first, second, lamp]):
+            self.assertEqual(parting(one, other, things, [(9, 0)]), ((("lamp", 1, 5, 0),), (9, 0)), things)
+        self.assertEqual(
+            parting(one, other, [second, first], [(9, 0)]), ((("post", 2, 0, 20), ("post", 1, 0, 20)), (9, 0))
+        )
+
     def test_a_shift_of_nothing_is_a_move(self):
         one = house_of(("lamp", 0, 0, 1, 1, 1))
         self.assertIsNone(parting(one, one.twin(), [("lamp", 1, ((0, 0),))], [(1, 1)]))
@@ -140,6 +152,24 @@ class TestParting(unittest.TestCase):
             self.assertEqual(told, plain_parting(plain_one, plain_other, things, places), (one.deeds(), other.deeds(), things))
             depths.add(None if told is None else len(told[0]))
         self.assertTrue({None, 2, 3} <= depths, depths)
+
+    def test_walls_that_must_go_or_lamps_that_pass_them(self):
+        # How often fewer things are moved than by the first row of all that tells the houses apart.
+        fewer = 0
+        for seed in range(60):
+            chance = plainhouse.seeded(3000 + seed)
+            walls = [("post", at, -9, at, 9) for at in (2, 3)]
+            lamps = [[("lamp", 0, 0, *plainhouse.some_choice(chance)[2:])] for house in range(2)]
+            (one, plain_one), (other, plain_other) = [plainhouse.both_of(rows + walls, House) for rows in lamps]
+            shifts = {"lamp": ((1, 0), (5, 0), (0, 2)), "post": ((0, 1), (0, 40), (5, 0))}
+            things = [("lamp", 1)] * (chance.random() < 0.9) + [("post", 1), ("post", 2)]
+            things = [(*name, tuple(chance.choices(shifts[name[0]], k=2))) for name in things]
+            places = [(9, chance.randint(-3, 3))]
+            told = parting(one, other, things, places)
+            self.assertEqual(told, plain_parting(plain_one, plain_other, things, places), (one.deeds(), other.deeds(), things))
+            alone = parting(one, other, things[1:], places)
+            fewer += told is not None and alone is not None and len(told[0]) < len(alone[0])
+        self.assertGreater(fewer, 3)
 
     def test_six_shifts_each(self):
         for seed in range(20):

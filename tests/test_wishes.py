@@ -283,6 +283,18 @@ class TestRefusals(unittest.TestCase):
         self.refused(BadLight, House(), self.menu, [(0, 0, 0, 0, -1)], most=-1)
         self.assertIsNone(wish(House(), self.menu, [(FAR, -FAR, 24 * BRIGHT, 0, 0)]))
 
+    def test_each_number_at_its_bound_and_one_beyond(self):
+        for at, error in enumerate((BadPlace, BadPlace, BadLight, BadLight, BadLight)):
+            for rows, least, most in (
+                (self.menu, -FAR if at < 2 else 0, FAR if at < 2 else BRIGHT),
+                (self.wants, -FAR if at < 2 else 0, FAR if at < 2 else 24 * BRIGHT),
+            ):
+                for worth, beyond in ((least, least - 1), (most, most + 1)):
+                    good, bad = [[(*rows[0][:at], number, *rows[0][at + 1:])] for number in (worth, beyond)]
+                    for row, refusal in ((good, BadWish), (bad, error)):
+                        menu, wants = (row, self.wants) if rows is self.menu else (self.menu, row)
+                        self.refused(refusal, House(), menu, wants, most=-1)
+
     def test_most_below_nought_goes_last(self):
         self.refused(BadWish, House(), self.menu, self.wants, most=-1)
         self.refused(BadWish, House(), self.menu, self.wants, most=-10 ** 29)
